@@ -1,0 +1,1 @@
+"""Ringfell: places taken out of a web so that no ring is left."""

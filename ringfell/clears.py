@@ -21,6 +21,14 @@ def without_place(places, place):
     return tuple([other for other in places if other != place])
 
 
+def all_sets(places):
+    # All sets of some places, small ones first.
+    sets = [()]
+    for place in places:
+        sets = sets + [one + (place,) for one in sets]
+    return sorted(sets, key=len)
+
+
 def own_ring(web, places, place):
     return ring_at(cut_web(web, without_place(places, place)), place)
 

@@ -11,6 +11,20 @@ from itertools import combinations, permutations
 FAR = 10 ** 59 + 7
 
 
+def nothing():
+    yield (0, 1)
+
+
+NO_NUMBERS = (None, True, False, "3", "", "a", -1, 41, 42, FAR, -FAR, [], [3], (), (3,), {}, {3: 3}, {3}, b"3",
+              range(3), object(), int, nothing)
+NO_ROWS = (None, True, False, 0, 3, FAR, "", "ab", "01", {}, {0: 1}, {(0, 1)}, b"", b"ab", range(0), range(3),
+           object(), list, nothing, nothing())
+NO_PAIRS = (None, True, False, 0, 1, FAR, "", "ab", "01", b"ab", {}, {0: 1, 1: 0}, {0, 1}, frozenset((0, 1)),
+            range(2), object(), tuple, nothing, nothing(), (), [], (0,), [1], (0, 1, 2), [0, 1, 2], (True, 1),
+            (1, True), (False, 0), [0, False], ("0", 1), (0, "1"), (None, 0), (0, None), (0, (1,)), ([0], 1),
+            (3, 0), (0, 3), (-1, 0), (0, -1), [-1, -1], [3, 3], (FAR, 0), (0, FAR), (0, -FAR), ((0, 1), (0, 1)))
+
+
 @contextmanager
 def soon(seconds=60):
     """Fails what takes far longer than it may, so that it doesn't run on for ever."""

@@ -12,7 +12,7 @@ def pair_of(fraction):
 
 def ties_inside(web, places, place):
     """The ties of a place within these places, a loop counting twice."""
-    return sum((a == place) + (b == place) for a, b in web[1] if a in places and b in places)
+    return sum(tie.count(place) for tie in web[1] if place in tie and tie[0] in places and tie[1] in places)
 
 
 def plain_layer(web, layer):

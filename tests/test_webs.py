@@ -7,22 +7,8 @@ import unittest
 from ringfell.errors import BadWeb, NoTie, TooMany
 from ringfell.webs import (cut_web, hanging_parts, less_tie, made_web, near_places, put_tie, renamed_web,
                            side_by_side, spare_ties, tied_times, ties_at, ties_within)
-from tests.helpers import (FAR, all_sets, bare, circle, drawn_set, drawn_web, joined, large_webs, plain_clears,
-                           plain_cut, plain_parts, plain_web, small_webs, times, whole_web)
-
-
-def nothing():
-    yield (0, 1)
-
-
-NO_NUMBERS = (None, True, False, "3", "", "a", -1, 41, 42, FAR, -FAR, [], [3], (), (3,), {}, {3: 3}, {3}, b"3",
-              range(3), object(), int, nothing)
-NO_ROWS = (None, True, False, 0, 3, FAR, "", "ab", "01", {}, {0: 1}, {(0, 1)}, b"", b"ab", range(0), range(3),
-           object(), list, nothing, nothing())
-NO_PAIRS = (None, True, False, 0, 1, FAR, "", "ab", "01", b"ab", {}, {0: 1, 1: 0}, {0, 1}, frozenset((0, 1)),
-            range(2), object(), tuple, nothing, nothing(), (), [], (0,), [1], (0, 1, 2), [0, 1, 2], (True, 1),
-            (1, True), (False, 0), [0, False], ("0", 1), (0, "1"), (None, 0), (0, None), (0, (1,)), ([0], 1),
-            (3, 0), (0, 3), (-1, 0), (0, -1), [-1, -1], [3, 3], (FAR, 0), (0, FAR), (0, -FAR), ((0, 1), (0, 1)))
+from tests.helpers import (FAR, NO_NUMBERS, NO_PAIRS, NO_ROWS, all_sets, bare, circle, drawn_set, drawn_web, joined,
+                           large_webs, plain_clears, plain_cut, plain_parts, plain_web, small_webs, times, whole_web)
 
 
 class Made(unittest.TestCase):

@@ -32,20 +32,25 @@ def lift_ring(web, log, ring):
     return lifted_form(state[1], ring)
 
 
-def pushed_by(state, step, places):
-    if step[0] == "many" or step[1] not in places:
-        return places
-    pushed = [place for place in places if place != step[1]]
+def pushed_along(states, log, places, instead):
+    # Instead tells the places that are put in the place of the one that goes by a step.
+    pushed = tuple(places)
+    for at, step in enumerate(log):
+        # By a step of two places none goes.
+        if len(step) == 2 and step[1] in pushed:
+            stay = [place for place in pushed if place != step[1]]
+            pushed = tuple(sorted(set(stay + instead(states[at], step))))
+    return pushed
+
+
+def put_instead(state, step):
     if step[0] == "two":
-        pushed.append(joined_tie(state[1], step[1])[0])
-    return tuple(sorted(set(pushed)))
+        return [joined_tie(state[1], step[1])[0]]
+    return []
 
 
 def push_places(web, log, places):
     states = log_states(web, log)
     if not clears_web(web, places):
         raise NotClear("these places don't clear the web")
-    pushed = tuple(places)
-    for at, step in enumerate(log):
-        pushed = pushed_by(states[at], step, pushed)
-    return pushed
+    return pushed_along(states, log, places, put_instead)

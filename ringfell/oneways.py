@@ -31,6 +31,18 @@ def arrows_in(web, place):
     return tuple([arrow[0] for arrow in web[1] if arrow[1] == place])
 
 
+def out_lists(web):
+    # The heads of every place's arrows at once, for walks that ask for them again and again.
+    lists = [[] for place in range(web[0])]
+    for arrow in web[1]:
+        lists[arrow[0]].append(arrow[1])
+    return lists
+
+
+def in_lists(web):
+    return out_lists(turned_arrows(web))
+
+
 def cut_oneway(web, places):
     return (web[0], tuple([arrow for arrow in web[1] if arrow[0] not in places and arrow[1] not in places]))
 
@@ -56,11 +68,15 @@ def both_ways(web):
     return checked_oneway(web[0], sorted(set(list(web[1]) + about)))
 
 
+def round_arrows(places):
+    # The first place has the last one ahead of it; of one place alone this is its loop.
+    return [(places[at - 1], place) for at, place in enumerate(places)]
+
+
 def is_round(web, places):
     if len(places) == 0 or len(set(places)) != len(places):
         return False
-    # The first place has the last one ahead of it; of one place alone this asks for its loop.
-    return all([(places[at - 1], place) in web[1] for at, place in enumerate(places)])
+    return all([arrow in web[1] for arrow in round_arrows(places)])
 
 
 def round_form(places):
@@ -95,8 +111,8 @@ def go_round(behind, ahead, way, found):
 
 
 def all_rounds(web):
-    behind = [arrows_out(web, place) for place in range(web[0])]
-    ahead = [arrows_in(web, place) for place in range(web[0])]
+    behind = out_lists(web)
+    ahead = in_lists(web)
     found = []
     for first in range(web[0]):
         go_round(behind, ahead, (first,), found)

@@ -113,11 +113,14 @@ def ring_along(web, near, tie):
     return way_about(near, tie[0], tie[1])
 
 
+def shortest_of(ways):
+    return min([way for way in ways if way is not None], key=len, default=None)
+
+
 def least_along(web, ties):
     # The form of a least one of the rings that go along one of these ties; None without one.
     near = near_lists(web)
-    rings = [ring_along(web, near, tie) for tie in sorted(set(ties))]
-    least = min([ring for ring in rings if ring is not None], key=len, default=None)
+    least = shortest_of([ring_along(web, near, tie) for tie in sorted(set(ties))])
     if least is None:
         return None
     return ring_form(least)

@@ -101,29 +101,37 @@ def rule_step(state, step):
     return step_done(state, step)
 
 
-def log_states(web, log):
-    # The states ahead of the steps, each at its step's place, and the last one behind them all.
-    states = [begin_rules(web)]
+def states_along(state, log, lets, done):
+    # The states ahead of the steps, each at its step's place, and the last one behind them all;
+    # lets says whether a step can be done, done does it.
+    states = [state]
     for at, step in enumerate(log):
-        if not can_do(states[at], step):
+        if not lets(states[at], step):
             raise NoStep(at)
-        states.append(step_done(states[at], step))
+        states.append(done(states[at], step))
     return states
+
+
+def log_states(web, log):
+    return states_along(begin_rules(web), log, can_do, step_done)
 
 
 def run_log(web, log):
     return log_states(web, log)[-1]
 
 
-def ruled_log(web):
+def log_to_end(state, steps_of, done):
     log = []
-    state = begin_rules(web)
-    steps = steps_now(state)
+    steps = steps_of(state)
     while steps:
         log.append(steps[0])
-        state = step_done(state, steps[0])
-        steps = steps_now(state)
+        state = done(state, steps[0])
+        steps = steps_of(state)
     return log
+
+
+def ruled_log(web):
+    return log_to_end(begin_rules(web), steps_now, step_done)
 
 
 def core_web(web, state):

@@ -61,14 +61,13 @@ def ties_within(web, places):
     return len([tie for tie in web[1] if tie[0] in places and tie[1] in places])
 
 
+def is_rising(row):
+    return all([one < other for one, other in zip(row, row[1:])])
+
+
 def is_set_of(web, places):
     # Judges are handed any numbers, so that these are a set must be looked at.
-    for at, place in enumerate(places):
-        if not 0 <= place < web[0]:
-            return False
-        if at > 0 and places[at - 1] >= place:
-            return False
-    return True
+    return is_rising(places) and all([0 <= place < web[0] for place in places])
 
 
 def cut_web(web, places):

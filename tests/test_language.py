@@ -39,6 +39,21 @@ def nodes(kinds):
                 yield path, node
 
 
+def parents(kinds):
+    """Nodes of these kinds, each with the node that it stands in."""
+    for path, node in nodes(ast.AST):
+        for child in ast.iter_child_nodes(node):
+            if isinstance(child, kinds):
+                yield path, child, node
+
+
+def called(node):
+    """The name of what is called, of a method too; None where nothing is."""
+    if not isinstance(node, ast.Call):
+        return None
+    return node.func.attr if isinstance(node.func, ast.Attribute) else getattr(node.func, "id", None)
+
+
 class Texts(unittest.TestCase):
     def test_files(self):
         """L1, L14"""
@@ -139,6 +154,68 @@ class Trees(unittest.TestCase):
         for path, node in nodes(ast.Constant):
             if isinstance(node.value, str):
                 self.assertNotIn("%", node.value, (path, node.lineno))
+
+    def test_the_top_of_a_file(self):
+        """L3, L15"""
+        for path, tree in trees():
+            bound = []
+            for at, node in enumerate(tree.body):
+                docstring = at == 0 and isinstance(node, ast.Expr) and isinstance(node.value, ast.Constant)
+                kinds = (ast.ImportFrom, ast.FunctionDef, ast.ClassDef, ast.Assign)
+                self.assertTrue(docstring or isinstance(node, kinds), (path, node.lineno))
+                if isinstance(node, ast.Assign):
+                    bound.append(node.targets[0].id)
+                    inner = [child for child in ast.walk(node.value) if isinstance(child, (ast.List, ast.Dict))]
+                    self.assertLessEqual(len(inner), 1, (path, node.lineno))
+                elif isinstance(node, ast.ImportFrom):
+                    bound += [name.name for name in node.names]
+                elif not docstring:
+                    bound.append(node.name)
+            self.assertEqual(len(set(bound)), len(bound), path)
+
+    def test_no_local_is_called_like_an_import_or_a_class(self):
+        """L15"""
+        for path, tree in trees():
+            taken = [name.name for node in tree.body if isinstance(node, ast.ImportFrom) for name in node.names]
+            taken += [node.name for node in tree.body if isinstance(node, (ast.ClassDef, ast.FunctionDef))]
+            for node in ast.walk(tree):
+                name = node.arg if isinstance(node, ast.arg) else None
+                if isinstance(node, ast.Name) and isinstance(node.ctx, ast.Store):
+                    name = node.id
+                self.assertNotIn(name, taken, path)
+
+    def test_what_is_walked_at_once(self):
+        """L23"""
+        walked = ("zip", "enumerate", "reversed", "range", "items", "keys", "values")
+        takers = ("list", "tuple", "dict", "sorted", "sum", "any", "all", "enumerate", "zip", "min", "max")
+        for path, node, parent in parents(ast.Call):
+            if called(node) in walked:
+                good = isinstance(parent, (ast.For, ast.comprehension)) and parent.iter is node
+                self.assertTrue(good or called(parent) in takers, (path, node.lineno))
+
+    def test_sets(self):
+        """L24"""
+        for path, node, parent in parents(ast.Call):
+            if called(node) in ("set", "frozenset"):
+                good = isinstance(parent, (ast.Compare, ast.BinOp)) or called(parent) in ("sorted", "len")
+                self.assertTrue(good, (path, node.lineno))
+        for path, node in nodes(ast.Set):
+            self.fail((path, node.lineno))
+
+    def test_keywords(self):
+        """L22"""
+        for path, node in nodes(ast.Call):
+            names = [word.arg for word in node.keywords]
+            allowed = {"sorted": ["key", "reverse"], "min": ["key", "default"], "max": ["key", "default"],
+                       "sum": ["start"], "enumerate": ["start"], "zip": ["strict"]}
+            self.assertLessEqual(set(names), set(allowed.get(called(node), [])), (path, node.lineno))
+
+    def test_errors_are_taken_by_name(self):
+        """L19"""
+        own = {node.name for path, node in nodes(ast.ClassDef)}
+        for path, node in nodes(ast.ExceptHandler):
+            self.assertIsInstance(node.type, ast.Name, (path, node.lineno))
+            self.assertIn(node.type.id, own | {"KeyError", "ZeroDivisionError"}, (path, node.lineno))
 
     def test_no_two_files_draw_from_one_another(self):
         """L16"""

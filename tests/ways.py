@@ -70,6 +70,16 @@ def rotated(row):
     return [tuple(row[at:]) + tuple(row[:at]) for at in range(len(row))]
 
 
+def plain_gone(row):
+    """The arrows by which a round goes."""
+    return [(row[at], row[(at + 1) % len(row)]) for at in range(len(row))]
+
+
+def plain_without(web, arrows):
+    """12.2: the web without a set of arrows."""
+    return (web[0], tuple(arrow for arrow in web[1] if arrow not in arrows))
+
+
 def plain_rest(web, places):
     """10.1: the web cut by places."""
     return (web[0], tuple(arrow for arrow in web[1] if not set(arrow) & set(places)))
